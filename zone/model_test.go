@@ -180,5 +180,5 @@ func zonesAt(first, size int) []api.Zone {
 	return l
 }
 
-// fewSizes are sizes of which all right zones are few enough to look at each of them.
-var fewSizes = [][]int{{1}, {2}, {3}, {4}, {1, 1}, {1, 2}, {2, 1}, {2, 2}, {3, 1}, {2, 3}, {1, 1, 1}, {1, 2, 1}, {2, 1, 1}, {1, 1, 1, 1}}
+// fewSizes are all sizes of up to four frames together, and some more: their right zones are few enough to look at each of them.
+var fewSizes = [][]int{{1}, {2}, {1, 1}, {3}, {1, 2}, {2, 1}, {1, 1, 1}, {4}, {1, 3}, {2, 2}, {3, 1}, {1, 1, 2}, {1, 2, 1}, {2, 1, 1}, {1, 1, 1, 1}, {2, 3}}
